@@ -1,0 +1,1 @@
+"""Clashbook: what follows where things are known by what they clash with."""

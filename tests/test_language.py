@@ -1,0 +1,136 @@
+"""The package keeps to the plain part of Python: those rules that a look at the code can settle."""
+
+import ast
+import pathlib
+import re
+import unittest
+
+PACKAGE = pathlib.Path(__file__).resolve().parent.parent / "clashbook"
+FILES = sorted(PACKAGE.rglob("*.py"))
+NO_NODES = (
+    ast.With, ast.AsyncWith, ast.Match, ast.Delete, ast.Global, ast.Nonlocal, ast.Assert, ast.Yield, ast.YieldFrom,
+    ast.AsyncFunctionDef, ast.AsyncFor, ast.Await, ast.SetComp, ast.DictComp, ast.GeneratorExp, ast.NamedExpr,
+    ast.Starred, ast.Import, ast.Div, ast.MatMult,
+)
+BUILT_IN = set(
+    "len range enumerate zip min max sum abs sorted reversed int str bool list tuple dict set frozenset isinstance ord"
+    " repr any all divmod Exception ValueError KeyError IndexError LookupError ZeroDivisionError ArithmeticError"
+    " OverflowError RuntimeError NotImplementedError AttributeError StopIteration TypeError".split()
+)
+IN_ANNOTATIONS = {"object", "float", "bytes"}
+TWO_UNDERSCORES = {"__init__", "__eq__", "__repr__", "__str__", "__len__", "__all__", "__version__"}
+METHODS = set(
+    "append clear copy count endswith extend find get index insert isalnum isalpha isdigit islower isspace isupper items"
+    " join keys ljust lower lstrip partition pop remove replace reverse rfind rjust rpartition rsplit rstrip setdefault"
+    " split splitlines startswith strip update upper values zfill bit_length __init__ __name__".split()
+)
+NO_WORDS = (
+    r"\b(type|typing|typing_extensions|enum|Enum|IntEnum|StrEnum|Flag|IntFlag|Generic|Protocol|ABC|ABCMeta|namedtuple"
+    r"|NamedTuple|TypedDict|TYPE_CHECKING|abstractmethod)\b|dataclass|overload|contextmanager"
+)
+NO_NAMES = set("register mro elements open input version_info with_traceback add_note format format_map".split())
+
+
+def bound_names(tree):
+    """Every name that a file binds anywhere."""
+    names = set()
+    for node in ast.walk(tree):
+        if isinstance(node, (ast.FunctionDef, ast.ClassDef)):
+            names.add(node.name)
+        elif isinstance(node, ast.arg):
+            names.add(node.arg)
+        elif isinstance(node, ast.Name) and isinstance(node.ctx, ast.Store):
+            names.add(node.id)
+        elif isinstance(node, ast.ImportFrom):
+            names.update(alias.asname or alias.name for alias in node.names)
+        elif isinstance(node, ast.ExceptHandler) and node.name:
+            names.add(node.name)
+    return names
+
+
+def own_attributes(trees):
+    """Methods of the package's classes, and values given to its objects."""
+    names = set()
+    for tree in trees:
+        for node in ast.walk(tree):
+            if isinstance(node, ast.ClassDef):
+                names.update(child.name for child in node.body if isinstance(child, ast.FunctionDef))
+            elif isinstance(node, ast.Attribute) and isinstance(node.ctx, ast.Store):
+                names.add(node.attr)
+    return names
+
+
+class Language(unittest.TestCase):
+    def setUp(self):
+        self.texts = {path.name: path.read_text(encoding="utf-8") for path in FILES}
+        self.trees = {name: ast.parse(text) for name, text in self.texts.items()}
+
+    def test_there_are_files(self):
+        self.assertIn("__init__.py", self.texts)
+
+    def test_signs_and_sizes(self):
+        for name, text in self.texts.items():
+            self.assertIsNone(re.search(r"[^ -~\n]", text), name)
+            rows = text.splitlines()
+            self.assertLessEqual(len(rows), 400, name)
+            self.assertLessEqual(max(map(len, rows), default=0), 120, name)
+
+    def test_words(self):
+        for name, text in self.texts.items():
+            self.assertIsNone(re.search(NO_WORDS, text), name)
+
+    def test_functions(self):
+        for name, tree in self.trees.items():
+            for node in ast.walk(tree):
+                if isinstance(node, ast.FunctionDef):
+                    place = (name, node.name)
+                    self.assertLessEqual(node.end_lineno - node.lineno + 1, 40, place)
+                    self.assertEqual(node.decorator_list, [], place)
+                    self.assertIsNone(node.args.vararg or node.args.kwarg, place)
+                    self.assertEqual(node.args.kwonlyargs + node.args.posonlyargs, [], place)
+
+    def test_statements_and_expressions(self):
+        for name, tree in self.trees.items():
+            for node in ast.walk(tree):
+                place = (name, getattr(node, "lineno", 0), node)
+                self.assertNotIsInstance(node, NO_NODES, place)
+                if isinstance(node, (ast.For, ast.While)):
+                    self.assertEqual(node.orelse, [], place)
+                if isinstance(node, ast.Assign):
+                    self.assertEqual(len(node.targets), 1, place)
+                if isinstance(node, ast.ListComp):
+                    self.assertEqual(len(node.generators), 1, place)
+                    self.assertLessEqual(len(node.generators[0].ifs), 1, place)
+                if isinstance(node, ast.Try):
+                    self.assertEqual(node.finalbody, [], place)
+                if isinstance(node, ast.Constant):
+                    self.assertNotIsInstance(node.value, (float, bytes, complex), place)
+
+    def test_imports(self):
+        for name, tree in self.trees.items():
+            for node in ast.walk(tree):
+                if isinstance(node, ast.ImportFrom) and node.module != "__future__":
+                    self.assertEqual(node.level, 0, name)
+                    self.assertTrue((node.module + ".").startswith("clashbook."), (name, node.module))
+                    self.assertIn(node, tree.body, name)
+
+    def test_names(self):
+        for name, tree in self.trees.items():
+            known = bound_names(tree) | BUILT_IN | IN_ANNOTATIONS
+            for bound in bound_names(tree):
+                self.assertTrue(bound in TWO_UNDERSCORES or not bound.startswith("_"), (name, bound))
+                self.assertNotIn(bound, NO_NAMES | BUILT_IN, name)
+            for node in ast.walk(tree):
+                if isinstance(node, ast.Name):
+                    self.assertIn(node.id, known, (name, node.lineno))
+
+    def test_methods(self):
+        known = METHODS | own_attributes(self.trees.values())
+        for name, tree in self.trees.items():
+            for node in ast.walk(tree):
+                if isinstance(node, ast.Attribute):
+                    self.assertIn(node.attr, known - NO_NAMES, (name, node.lineno))
+
+
+if __name__ == "__main__":
+    unittest.main()
