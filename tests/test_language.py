@@ -29,6 +29,10 @@ NO_WORDS = (
     r"|NamedTuple|TypedDict|TYPE_CHECKING|abstractmethod)\b|dataclass|overload|contextmanager"
 )
 NO_NAMES = set("register mro elements open input version_info with_traceback add_note format format_map".split())
+NOT_AS_NAMES = set(
+    "attrgetter breakpoint builtins compile copyright credits delattr dir eval exec exit gc getattr globals hasattr help id"
+    " importlib license locals methodcaller os quit setattr super vars sys hash next map filter iter chr".split()
+)
 
 
 def bound_names(tree):
@@ -48,16 +52,14 @@ def bound_names(tree):
     return names
 
 
-def own_attributes(trees):
-    """Methods of the package's classes, and values given to its objects."""
-    names = set()
-    for tree in trees:
-        for node in ast.walk(tree):
-            if isinstance(node, ast.ClassDef):
-                names.update(child.name for child in node.body if isinstance(child, ast.FunctionDef))
-            elif isinstance(node, ast.Attribute) and isinstance(node.ctx, ast.Store):
-                names.add(node.attr)
-    return names
+def own_methods(trees):
+    classes = [node for tree in trees for node in ast.walk(tree) if isinstance(node, ast.ClassDef)]
+    return {child.name for node in classes for child in node.body if isinstance(child, ast.FunctionDef)}
+
+
+def own_values(trees):
+    nodes = [node for tree in trees for node in ast.walk(tree) if isinstance(node, ast.Attribute)]
+    return {node.attr for node in nodes if isinstance(node.ctx, ast.Store)}
 
 
 class Language(unittest.TestCase):
@@ -103,8 +105,34 @@ class Language(unittest.TestCase):
                     self.assertLessEqual(len(node.generators[0].ifs), 1, place)
                 if isinstance(node, ast.Try):
                     self.assertEqual(node.finalbody, [], place)
+                if isinstance(node, ast.Compare) and {ast.Is, ast.IsNot} & {op.__class__ for op in node.ops}:
+                    self.assertIsInstance(node.comparators[-1], ast.Constant, place)
+                    self.assertIn(node.comparators[-1].value, (None, True, False), place)
                 if isinstance(node, ast.Constant):
                     self.assertNotIsInstance(node.value, (float, bytes, complex), place)
+
+    def test_each_name_once_at_the_top(self):
+        for name, tree in self.trees.items():
+            bound = []
+            for node in tree.body:
+                if isinstance(node, (ast.FunctionDef, ast.ClassDef)):
+                    bound.append(node.name)
+                elif isinstance(node, ast.Assign):
+                    bound.append(node.targets[0].id)
+                elif isinstance(node, ast.ImportFrom):
+                    bound.extend(alias.name for alias in node.names)
+            self.assertEqual(sorted(bound), sorted(set(bound)), name)
+
+    def test_no_two_files_draw_from_one_another(self):
+        draws = {}
+        for name, tree in self.trees.items():
+            nodes = [node for node in ast.walk(tree) if isinstance(node, ast.ImportFrom)]
+            draws["clashbook." + name[:-3]] = {node.module for node in nodes}
+        settled = set()
+        while len(settled) < len(draws):
+            ready = {name for name, drawn in draws.items() if drawn & set(draws) <= settled}
+            self.assertGreater(len(ready), len(settled), draws)
+            settled = ready
 
     def test_imports(self):
         for name, tree in self.trees.items():
@@ -119,13 +147,16 @@ class Language(unittest.TestCase):
             known = bound_names(tree) | BUILT_IN | IN_ANNOTATIONS
             for bound in bound_names(tree):
                 self.assertTrue(bound in TWO_UNDERSCORES or not bound.startswith("_"), (name, bound))
-                self.assertNotIn(bound, NO_NAMES | BUILT_IN, name)
+                self.assertNotIn(bound, NO_NAMES | NOT_AS_NAMES | BUILT_IN, name)
             for node in ast.walk(tree):
                 if isinstance(node, ast.Name):
                     self.assertIn(node.id, known, (name, node.lineno))
 
     def test_methods(self):
-        known = METHODS | own_attributes(self.trees.values())
+        methods = own_methods(self.trees.values())
+        values = own_values(self.trees.values())
+        self.assertEqual(methods & values, set())
+        known = METHODS | methods | values
         for name, tree in self.trees.items():
             for node in ast.walk(tree):
                 if isinstance(node, ast.Attribute):
