@@ -1,5 +1,6 @@
 """The closing: all that the eight steps lead to, from a sheet and its rules."""
 
+from clashbook.masks import bits_of
 from clashbook.sheets import is_below
 
 
@@ -24,16 +25,6 @@ class Growth:
         self.lines.append((i, j, why))
         self.above[i] |= 1 << j
         self.below[j] |= 1 << i
-
-
-def bits_of(mask):
-    bits = []
-    rest = mask
-    while rest:
-        low = rest & -rest
-        bits.append(low.bit_length() - 1)
-        rest ^= low
-    return bits
 
 
 def begin(growth, sheet):

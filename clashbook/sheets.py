@@ -7,9 +7,13 @@ NONE_ROW = ("none",)
 MOST_ROWS = 40
 
 
-def is_below(n, bound):
+def is_whole(n):
     # True and False are ints to Python, but no whole numbers here.
-    return isinstance(n, int) and not isinstance(n, bool) and 0 <= n < bound
+    return isinstance(n, int) and not isinstance(n, bool)
+
+
+def is_below(n, bound):
+    return is_whole(n) and 0 <= n < bound
 
 
 # A row k draws only on rows ahead of it: so its numbers are those of a sheet of k rows.

@@ -1,4 +1,4 @@
-"""Terms, sheets and rules for the tests, and the steps once more, said in another way."""
+"""Terms, sheets, rules and worlds for the tests; steps and values once more, said in another way."""
 
 NONE = ("none",)
 ALL = ("all",)
@@ -82,3 +82,57 @@ def ways(premises, said):
     for premise in premises:
         told = [way + (p,) for way in told for p, pair in enumerate(said) if pair == premise]
     return told
+
+
+def lines_in(why):
+    """The numbers of lines that a why names."""
+    return why[2] if why[0] == "rule" else why[1:]
+
+
+def counter_by_hand(many, clashes, spots):
+    """The set of all spots that clash with each spot of a set."""
+    return {a for a in range(many) if all((a, b) in clashes or (b, a) in clashes for b in spots)}
+
+
+def value_by_hand(world, t):
+    """The value of a term as a set, word by word as point 4 has it."""
+    many, clashes, names = world
+    if t[0] == "none":
+        return set()
+    if t[0] == "all":
+        return set(range(many))
+    if t[0] == "name":
+        return set(dict(names)[t[1]])
+    values = [value_by_hand(world, part) for part in t[1:]]
+    if t[0] == "not":
+        return counter_by_hand(many, clashes, values[0])
+    if t[0] == "both":
+        return set.intersection(*values)
+    counters = [counter_by_hand(many, clashes, value) for value in values]
+    return counter_by_hand(many, clashes, set.intersection(*counters))
+
+
+def holds_by_hand(world, saying):
+    return value_by_hand(world, saying[0]) <= value_by_hand(world, saying[1])
+
+
+def fits_by_hand(world, rule):
+    return holds_by_hand(world, rule[1]) or not all([holds_by_hand(world, premise) for premise in rule[0]])
+
+
+def some_world(chance, many, names="abcd"):
+    pairs = [(a, b) for b in range(many) for a in range(b)]
+    clashes = sorted(pair for pair in pairs if chance.random() < 0.6)
+    sets = []
+    for name in sorted(names):
+        spots = [a for a in range(many) if chance.random() < 0.3]
+        sets.append((name, sorted(counter_by_hand(many, clashes, spots))))
+    return (many, clashes, sets)
+
+
+def some_saying(chance, deep):
+    return (some_term(chance, deep), some_term(chance, deep))
+
+
+def some_rule(chance, deep):
+    return ([some_saying(chance, deep) for premise in range(chance.choice((0, 0, 1, 1, 2, 5)))], some_saying(chance, deep))

@@ -33,6 +33,33 @@ NOT_AS_NAMES = set(
     "attrgetter breakpoint builtins compile copyright credits delattr dir eval exec exit gc getattr globals hasattr help id"
     " importlib license locals methodcaller os quit setattr super vars sys hash next map filter iter chr".split()
 )
+WALKED_AT_ONCE = set("zip enumerate reversed range items keys values".split())
+WALKERS = set("list tuple dict sorted sum any all enumerate zip".split())
+
+
+def called(node):
+    """The name by which a call calls, or None for all else."""
+    if not isinstance(node, ast.Call):
+        return None
+    return node.func.attr if isinstance(node.func, ast.Attribute) else getattr(node.func, "id", None)
+
+
+def is_walked(node, above):
+    """Whether a call stands where its things are walked on the spot."""
+    if isinstance(above, (ast.For, ast.comprehension)):
+        return node == above.iter
+    if called(above) in WALKERS:
+        return node == above.args[0]
+    if called(above) in ("min", "max"):
+        return above.args == [node]
+    return called(above) == "join" and isinstance(above.func.value, ast.Constant)
+
+
+def is_set_in_place(above):
+    """Whether a set that stands within this is only looked at there."""
+    if isinstance(above, ast.Compare):
+        return isinstance(above.ops[0], (ast.In, ast.NotIn, ast.Eq, ast.NotEq))
+    return called(above) in ("sorted", "len") and above.keywords == []
 
 
 def bound_names(tree):
@@ -110,6 +137,17 @@ class Language(unittest.TestCase):
                     self.assertIn(node.comparators[-1].value, (None, True, False), place)
                 if isinstance(node, ast.Constant):
                     self.assertNotIsInstance(node.value, (float, bytes, complex), place)
+
+    def test_walks_and_sets(self):
+        for name, tree in self.trees.items():
+            for above in ast.walk(tree):
+                for node in ast.iter_child_nodes(above):
+                    place = (name, getattr(node, "lineno", 0))
+                    if called(node) in WALKED_AT_ONCE:
+                        self.assertTrue(is_walked(node, above), place)
+                    if called(node) in ("set", "frozenset"):
+                        self.assertTrue(is_set_in_place(above), place)
+                    self.assertNotIsInstance(node, ast.Set, place)
 
     def test_each_name_once_at_the_top(self):
         for name, tree in self.trees.items():
