@@ -13,8 +13,8 @@ def spot_against(world, saying):
     return [spot for spot in value(world, saying[0]) if spot not in beyond][0]
 
 
-def judge(book, saying):
-    sheet = sheet_of(terms_in(book, saying))
+# The sheet must have the terms of the book and the saying, and may have more rows than they need.
+def judge_on(sheet, book, saying):
     lines = closing(sheet, numbered(sheet, book))
     pair = pair_of(places_of(sheet), saying)
     found = paper(lines, pair[0], pair[1])
@@ -23,3 +23,7 @@ def judge(book, saying):
     # Where all is under none every pair has a line: so there is a world here.
     world = world_of(sheet, lines)
     return ("open", world, spot_against(world, saying))
+
+
+def judge(book, saying):
+    return judge_on(sheet_of(terms_in(book, saying)), book, saying)

@@ -40,3 +40,8 @@ def paper(lines, i, j):
 
 def leans(lines):
     return sorted(set([line[2][1] for line in lines if line[2][0] == "rule"]))
+
+
+# `numbers` has, at the place of each rule, the number by which it is told.
+def with_rules_as(lines, numbers):
+    return [(i, j, ("rule", numbers[why[1]], why[2]) if why[0] == "rule" else why) for i, j, why in lines]

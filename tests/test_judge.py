@@ -5,27 +5,13 @@ import itertools
 import random
 import unittest
 
-from samples import (
-    A, ALL, B, NONE, counter_by_hand, fits_by_hand, holds_by_hand, lines_in, pairs_of, some_rule, some_saying, value_by_hand,
-)
+from checks import Checks, names, spoil, terms_in_order
+from samples import A, ALL, B, NONE, counter_by_hand, holds_by_hand, some_rule, some_saying
 from clashbook.errors import TooMuch
-from clashbook.floors import is_world
 from clashbook.judge import judge
 from clashbook.papers import leans
-from clashbook.sheets import number, numbered, sheet_of
-from clashbook.steps import sound
-from clashbook.terms import names_in
+from clashbook.sheets import sheet_of
 from clashbook.texts import read_rule, read_saying
-
-
-def names(many):
-    """Two-letter names, as terms."""
-    return [("name", "q" + sign) for sign in "abcdefghijklmnopqrstuvwxyz"][:many]
-
-
-def terms_in_order(book, saying):
-    sayings = [each for premises, last in book for each in [*premises, last]] + [saying]
-    return [t for each in sayings for t in each]
 
 
 def small_worlds():
@@ -40,7 +26,7 @@ def small_worlds():
                 yield (many, clashes, [("a", list(a)), ("b", list(b))])
 
 
-class Judge(unittest.TestCase):
+class Judge(Checks):
     def settle(self, book, saying):
         """Whether a saying follows; the paper or the world that says so is looked at on the way."""
         before = copy.deepcopy((book, saying))
@@ -49,26 +35,12 @@ class Judge(unittest.TestCase):
         self.assertIs(answer.__class__, tuple)
         self.assertEqual(len(answer), 3)
         if answer[0] == "follows":
+            self.assertEqual(answer[1], sheet_of(terms_in_order(book, saying)))
             self.check_paper(book, saying, answer[1], answer[2])
         else:
             self.assertEqual(answer[0], "open")
             self.check_world(book, saying, answer[1], answer[2])
         return answer[0] == "follows"
-
-    def check_paper(self, book, saying, sheet, lines):
-        self.assertEqual(sheet, sheet_of(terms_in_order(book, saying)))
-        self.assertTrue(sound(sheet, numbered(sheet, book), lines))
-        self.assertEqual(len(set(pairs_of(lines))), len(lines))
-        self.assertEqual({p for line in lines for p in lines_in(line[2])}, set(range(len(lines) - 1)))
-        self.assertEqual(lines[-1][:2], (number(sheet, saying[0]), number(sheet, saying[1])))
-
-    def check_world(self, book, saying, world, spot):
-        self.assertTrue(is_world(world))
-        self.assertLessEqual(world[0], 80)
-        self.assertLessEqual(set(names_in(book, saying)), {name for name, spots in world[2]})
-        self.assertTrue(all(fits_by_hand(world, rule) for rule in book))
-        self.assertIn(spot, value_by_hand(world, saying[0]))
-        self.assertNotIn(spot, value_by_hand(world, saying[1]))
 
     def check(self, book, saying, asked):
         rules = [read_rule(text) for text in book]
@@ -205,12 +177,7 @@ class Judge(unittest.TestCase):
             kept = copy.deepcopy(first)
             second = judge(book, saying)
             self.assertEqual(second, kept)
-            for each in first[1:]:
-                if isinstance(each, list):
-                    each.clear()
-                elif isinstance(each, tuple):
-                    each[1].clear()
-                    each[2].clear()
+            spoil(first)
             self.assertEqual(second, kept)
             self.assertEqual(judge(book, saying), kept)
             book[0][0].append((A, B))

@@ -1,6 +1,7 @@
 """The package keeps to the plain part of Python: those rules that a look at the code can settle."""
 
 import ast
+import builtins
 import pathlib
 import re
 import unittest
@@ -76,6 +77,16 @@ def bound_names(tree):
             names.update(alias.asname or alias.name for alias in node.names)
         elif isinstance(node, ast.ExceptHandler) and node.name:
             names.add(node.name)
+    return names
+
+
+def local_names(tree):
+    """Every parameter and every name that is bound within a def."""
+    names = set()
+    for node in ast.walk(tree):
+        if isinstance(node, ast.FunctionDef):
+            names |= bound_names(ast.Module(body=node.body, type_ignores=[]))
+            names |= {each.arg for each in node.args.args}
     return names
 
 
@@ -189,6 +200,14 @@ class Language(unittest.TestCase):
             for node in ast.walk(tree):
                 if isinstance(node, ast.Name):
                     self.assertIn(node.id, known, (name, node.lineno))
+
+    def test_locals_are_named_apart(self):
+        for name, tree in self.trees.items():
+            apart = {node.name for node in tree.body if isinstance(node, ast.ClassDef)} | set(dir(builtins))
+            for node in tree.body:
+                if isinstance(node, ast.ImportFrom):
+                    apart |= {alias.name for alias in node.names}
+            self.assertEqual(local_names(tree) & apart, set(), name)
 
     def test_methods(self):
         methods = own_methods(self.trees.values())
